@@ -1,0 +1,1 @@
+"""Restingfixes: books of fixes that go over texts in rounds."""

@@ -1,0 +1,54 @@
+"""The names of the interface, and the rules of form that a short look can tell."""
+
+import ast
+import importlib
+import inspect
+import pathlib
+import unittest
+
+PACKAGE = pathlib.Path(__file__).resolve().parent.parent / "restingfixes"
+FILES = sorted(PACKAGE.glob("*.py"))
+
+# Only what has landed stands here; each stage adds its own rows.
+INTERFACE = {
+    "errors": {"InvalidText": ["at"], "InvalidLine": ["line", "reason"]},
+    "books": {"check_book": ["book"], "letters": ["book"]},
+    "texts": {"book_text": ["book"], "read_book": ["text"]},
+}
+
+
+class Interface(unittest.TestCase):
+    def test_names_and_arguments(self):
+        for name, rows in INTERFACE.items():
+            module = importlib.import_module(f"restingfixes.{name}")
+            for called, arguments in rows.items():
+                value = getattr(module, called)
+                self.assertEqual(value.__module__, module.__name__)
+                self.assertEqual(list(inspect.signature(value).parameters), arguments)
+
+
+class Form(unittest.TestCase):
+    def test_the_folder_holds_files_of_the_package_alone(self):
+        others = [path.name for path in PACKAGE.iterdir() if path not in FILES]
+        self.assertEqual([name for name in others if name != "__pycache__"], [])
+
+    def test_lines_and_signs(self):
+        for path in FILES:
+            text = path.read_bytes().decode("ascii")
+            self.assertEqual([sign for sign in text if sign < " " and sign != "\n"], [], path)
+            self.assertLessEqual(len(text.splitlines()), 399, path)
+            self.assertLessEqual(max([len(line) for line in text.splitlines()], default=0), 120, path)
+
+    def test_functions_are_short(self):
+        for path in FILES:
+            for node in ast.walk(ast.parse(path.read_text())):
+                if isinstance(node, ast.FunctionDef):
+                    self.assertLessEqual(node.end_lineno - node.lineno + 1, 40, (path, node.name))
+
+    def test_imports_are_from_the_package_or_the_library_that_is_let(self):
+        let = ("heapq", "math", "itertools", "collections", "__future__")
+        for path in FILES:
+            for node in ast.walk(ast.parse(path.read_text())):
+                self.assertNotIsInstance(node, ast.Import, path)
+                if isinstance(node, ast.ImportFrom):
+                    self.assertTrue(node.module in let or node.module.startswith("restingfixes."), path)
