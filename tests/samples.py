@@ -1,5 +1,7 @@
 """Books, and values that are none, which several tests share."""
 
+import itertools
+
 SWAP = ("", "ab", "ba", "")
 FULL = ("x", "abc", "zyx", "q")
 SHORT = ("", "a", "", "")
@@ -98,6 +100,37 @@ WRONG_FIXES = [
 
 # What may stand in the place of a word without being one, wherever the word stands.
 NO_WORDS = [None, True, False, 0, 1, 10**99, [], ["a"], (), ("a",), {}, {"a": "b"}]
+
+# What may stand in the place of an integer without being one.
+NO_NUMBERS = [None, True, False, "", "0", "1", [], [1], (), (1,), {}, {1: 1}, [0, [1]], "a" * 2000]
+
+
+def wrong_numbers(least, most):
+    """Values that are no integers from least to most."""
+    return NO_NUMBERS + [least - 1, most + 1, least - 10, most + 1000, 10**100 - 1, -(10**100) + 1]
+
+
+def wrong_texts():
+    """Values that are no texts of letters."""
+    things = [thing for thing in THINGS if thing not in ("", "a", "abcd")]
+    return things + NO_WORDS + ["a" * 201, "A", "aB", "a b", " ", "a1", "a\n", "\ta", "-", "a{", "`"]
+
+
+def wrong_letters():
+    """Values that are no ascending strings of 1 to 26 letters."""
+    things = [thing for thing in THINGS if thing not in ("a", "abcd")]
+    more = ["ba", "aa", "aab", "abca", "abb", "zy", "A", "aB", "a b", "a1", "ab\n", "-", "a{", "`a"]
+    alphabet = "abcdefghijklmnopqrstuvwxyz"
+    return things + NO_WORDS[:-2] + more + [alphabet + "z", alphabet + "a", "a" + alphabet, alphabet + "{", "a" * 26]
+
+
+def wide_book(signs, looked_at):
+    """A book with so many symbols whose fixes look at so many letters each."""
+    letters = itertools.cycle("abcdefghijklmnopqrstuvwxyz"[:signs - 1])
+    old = min(looked_at, 3)
+    lengths = (int(looked_at == 5), old, 3, int(looked_at > 3))
+    fixes = [["".join(itertools.islice(letters, length)) for length in lengths] for _ in range(5)]
+    return tuple([tuple(fix) for fix in fixes])
 
 
 def wrong_books():
