@@ -14,6 +14,26 @@ INTERFACE = {
     "errors": {"InvalidText": ["at"], "InvalidLine": ["line", "reason"]},
     "books": {"check_book": ["book"], "letters": ["book"]},
     "texts": {"book_text": ["book"], "read_book": ["text"]},
+    "rounds": {
+        "findings": ["book", "text"],
+        "taken": ["book", "text"],
+        "one_round": ["book", "text"],
+        "rounds": ["book", "text", "many"],
+        "course": ["book", "text", "most"],
+        "choices": ["book", "text"],
+        "ends": ["book", "text"],
+    },
+    "clean": {
+        "count_clean": ["book", "letters", "length"],
+        "clean_at": ["book", "letters", "length", "number"],
+        "number_of": ["book", "letters", "text"],
+        "longest_clean": ["book", "letters"],
+    },
+    "resting": {"restless": ["book", "many"], "rounds_needed": ["book"], "put_out": ["book", "many"]},
+    "likeness": {"alike": ["one", "other", "many"], "parted": ["one", "other", "many"], "not_twice": ["book"]},
+    "choosing": {"two_ends": ["book"]},
+    "waking": {"wake": ["book", "one", "other"], "wakes": ["book"], "row_of_wakes": ["book"]},
+    "reaching": {"reach": ["book"], "far": ["book", "many"], "apart": ["book"]},
 }
 
 
