@@ -34,6 +34,9 @@ INTERFACE = {
     "choosing": {"two_ends": ["book"]},
     "waking": {"wake": ["book", "one", "other"], "wakes": ["book"], "row_of_wakes": ["book"]},
     "reaching": {"reach": ["book"], "far": ["book", "many"], "apart": ["book"]},
+    "counting": {"count_resting": ["book", "letters", "length", "many"]},
+    "weights": {"weights": ["book"]},
+    "coming": {"comes_round": ["book", "most"]},
 }
 
 
