@@ -9,10 +9,8 @@ MOST_LETTERS = 200
 
 def check_book(book):
     """Raise InvalidBook unless the value is a book."""
-    if not isinstance(book, tuple) or len(book) > MOST_FIXES:
-        raise InvalidBook("a book is a tuple of at most 5 fixes")
-    if not all([is_fix(fix) for fix in book]):
-        raise InvalidBook("a fix is a tuple of four words: ahead, old, new, behind")
+    if not is_book(book):
+        raise InvalidBook("a book is a tuple of at most 5 fixes, each a tuple of four words")
 
 
 def check_text(text):
@@ -38,6 +36,13 @@ def letters_of(books):
     """Return the letters that stand in some books, ascending."""
     words = [word for book in books for fix in book for word in fix]
     return "".join(sorted(set("".join(words))))
+
+
+def is_book(value):
+    """Tell whether a value is a book."""
+    if not isinstance(value, tuple) or len(value) > MOST_FIXES:
+        return False
+    return all([is_fix(fix) for fix in value])
 
 
 def is_fix(value):

@@ -6,8 +6,13 @@ from restingfixes.errors import InvalidNumber, TooMany
 
 def check_number(value, least, most):
     """Raise InvalidNumber unless the value is an integer from least to most."""
-    if isinstance(value, bool) or not isinstance(value, int) or not least <= value <= most:
+    if not is_number(value, least, most):
         raise InvalidNumber("a number of another kind is asked for")
+
+
+def is_number(value, least, most):
+    """Tell whether a value is an integer from least to most."""
+    return isinstance(value, int) and not isinstance(value, bool) and least <= value <= most
 
 
 def check_size(books, exponent, most):

@@ -17,7 +17,8 @@ def weights(book):
         raise TooMany("more than 6 letters stand in the book")
     falls = [[old.count(letter) - new.count(letter) for letter in used] for _, old, new, _ in book]
     heavy = inner_point(falls, len(used))
-    if all([weighed(fall, heavy) > 0 for fall in falls]) and all([number > 0 for number in heavy]):
+    # If each fix falls, it does so with a little more of each letter, too: so none of heavy is 0 then.
+    if all([weighed(fall, heavy) > 0 for fall in falls]):
         return ("weights", {letter: heavy[at] for at, letter in enumerate(used)})
     gains = [[-fall[at] for fall in falls] for at in range(len(used))]
     return ("sum", edges(gains, len(book))[0])

@@ -3,6 +3,7 @@ import unittest
 
 import plain
 from restingfixes.coming import comes_round
+from restingfixes.coming import rounds_to_itself as told_rounds
 from restingfixes.errors import InvalidBook, InvalidNumber, TooMany
 from restingfixes.rounds import course
 from samples import BOOKS, SWAP, wide_book, wrong_books, wrong_numbers
@@ -134,6 +135,14 @@ class ComesRound(unittest.TestCase):
             told = comes_round(book, 4)
             self.assertEqual(told, expected(book, 4), book)
             self.assertEqual(told is None, most > 100, (book, told))
+
+    def test_just_a_hundred_letters_between(self):
+        # No short text is known that has just so many, so what looks at each text is asked for longer ones.
+        book = (("", "bb", "a", ""), ("", "a", "bb", ""))
+        for text, most in (("a" * 49 + "c", 99), ("a" * 50, 100), ("a" * 50 + "c", 101), ("a" * 51, 102)):
+            self.assertIsNone(rounds_to_itself(book, text, 12, most - 1))
+            self.assertEqual(rounds_to_itself(book, text, 12, most), 2)
+            self.assertEqual(told_rounds(book, text), 2 if most <= 100 else None)
 
     def test_by_name_and_equal_answers(self):
         before = copy.deepcopy(TURN)

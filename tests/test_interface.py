@@ -9,7 +9,6 @@ import unittest
 PACKAGE = pathlib.Path(__file__).resolve().parent.parent / "restingfixes"
 FILES = sorted(PACKAGE.glob("*.py"))
 
-# Only what has landed stands here; each stage adds its own rows.
 INTERFACE = {
     "errors": {"InvalidText": ["at"], "InvalidLine": ["line", "reason"]},
     "books": {"check_book": ["book"], "letters": ["book"]},
@@ -37,7 +36,42 @@ INTERFACE = {
     "counting": {"count_resting": ["book", "letters", "length", "many"]},
     "weights": {"weights": ["book"]},
     "coming": {"comes_round": ["book", "most"]},
+    "told": {"told_back": ["pairs"]},
+    "values": {"Row": ["books"]},
+    "papers": {"paper_text": ["book", "text"], "read_paper": ["text"]},
+    "desk": {"Desk": ["book", "text"], "try_all": ["desk", "deeds"]},
 }
+
+# The methods of each class, with what they take besides their own object.
+METHODS = {
+    ("values", "Row"): {
+        "__call__": ["text"],
+        "__rshift__": ["other"],
+        "__eq__": ["other"],
+        "__ne__": ["other"],
+        "__len__": [],
+        "__iter__": [],
+        "__contains__": ["value"],
+        "parted": ["other"],
+    },
+    ("desk", "Desk"): {
+        "put": ["at", "word"],
+        "strike": ["begin", "end"],
+        "rule": ["book"],
+        "round": [],
+        "undo": [],
+        "redo": [],
+        "findings": [],
+        "taken": [],
+        "trial": [],
+        "__len__": [],
+    },
+}
+PROPERTIES = {("values", "Row"): ["books"], ("desk", "Desk"): ["book", "text"]}
+
+
+def found(module, name):
+    return getattr(importlib.import_module(f"restingfixes.{module}"), name)
 
 
 class Interface(unittest.TestCase):
@@ -48,6 +82,21 @@ class Interface(unittest.TestCase):
                 value = getattr(module, called)
                 self.assertEqual(value.__module__, module.__name__)
                 self.assertEqual(list(inspect.signature(value).parameters), arguments)
+
+
+    def test_methods_and_properties_stand_in_the_class_itself(self):
+        for (module, name), rows in METHODS.items():
+            own = vars(found(module, name))
+            for called, arguments in rows.items():
+                self.assertTrue(inspect.isfunction(own[called]), (name, called))
+                self.assertEqual(list(inspect.signature(own[called]).parameters), ["self"] + arguments)
+            for called in PROPERTIES[module, name]:
+                self.assertIsInstance(own[called], property)
+
+    def test_errors(self):
+        for name in ("InvalidWord", "InvalidBook", "InvalidNumber", "InvalidLetters", "TooMany", "InvalidPairs",
+                     "InvalidRow", "InvalidPlace", "NothingToUndo", "NothingToRedo", "UnknownDeed", "FixError"):
+            self.assertEqual(found("errors", name).__module__, "restingfixes.errors")
 
 
 class Form(unittest.TestCase):
