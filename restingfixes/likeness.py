@@ -44,7 +44,8 @@ def first_parted(ones, others):
     row = [("", 0, 0, "", "")]
     while row:
         longer = []
-        for text, first, second, more, rest in row:
+        # A copy is walked, as the list that grows here is called row afterwards.
+        for text, first, second, more, rest in list(row):
             for sign in signs:
                 to, told = one[0][first][sign]
                 behind, answer = other[0][second][sign]

@@ -59,7 +59,8 @@ def first_restless(book, many):
     row = [("", 0, 0)]
     while row:
         longer = []
-        for text, state, place in row:
+        # A copy is walked, as the list that grows here is called row afterwards.
+        for text, state, place in list(row):
             for sign in signs:
                 to, told = steps[state][sign]
                 behind = search_on(search, place, told)

@@ -66,7 +66,8 @@ def first_waking(book, one, other):
     row = [("", 0, begin)]
     while row:
         longer = []
-        for text, state, watch in row:
+        # A copy is walked, as the list that grows here is called row afterwards.
+        for text, state, watch in list(row):
             for sign in signs:
                 to, pieces = steps[state][sign]
                 behind = watch_on(word, watch, one, pieces)

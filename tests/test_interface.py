@@ -6,6 +6,8 @@ import inspect
 import pathlib
 import unittest
 
+from loops import loops_that_change
+
 PACKAGE = pathlib.Path(__file__).resolve().parent.parent / "restingfixes"
 FILES = sorted(PACKAGE.glob("*.py"))
 
@@ -124,3 +126,34 @@ class Form(unittest.TestCase):
                 self.assertNotIsInstance(node, ast.Import, path)
                 if isinstance(node, ast.ImportFrom):
                     self.assertTrue(node.module in let or node.module.startswith("restingfixes."), path)
+
+    def test_no_loop_changes_what_it_walks(self):
+        for path in FILES:
+            self.assertEqual(loops_that_change(path.read_text()), [], path)
+
+
+class Loops(unittest.TestCase):
+    """The look at loops itself, as one that sees nothing would pass always."""
+
+    def rows(self, *lines):
+        return loops_that_change("\n".join(["def f(row, rows, box):"] + ["    " + line for line in lines]))
+
+    def test_a_list_that_has_a_second_name_is_seen(self):
+        grown = ("while row:", "    more = []", "    for x in {}:", "        more.append(x)", "    row = more")
+        for walked, wanted in (("row", [4]), ("enumerate(row)", [4]), ("row or rows", [4]),
+                               ("list(row)", []), ("row[:]", []), ("sorted(row)", []), ("rows", [])):
+            self.assertEqual(self.rows(*[line.format(walked) for line in grown]), wanted, walked)
+
+    def test_changes_of_each_kind_are_seen(self):
+        for change in ("row.append(x)", "row[0] = x", "row[0] += 1", "row += [x]", "del row[0]", "heappush(row, x)",
+                       "y = row.pop()", "(row if x else rows).clear()"):
+            self.assertEqual(self.rows("for x in row:", "    " + change), [2], change)
+        self.assertEqual(self.rows("for x in box.row:", "    box.row.append(x)"), [2])
+        self.assertEqual(self.rows("for x in rows[0]:", "    rows[0].append(x)"), [2])
+        self.assertEqual(self.rows("row, more = rows, []", "for x in row:", "    rows.append(x)"), [3])
+        self.assertEqual(self.rows("for k, x in box.items():", "    box[k] = x"), [2])
+        self.assertEqual(self.rows("return [row.pop() for x in row]"), [2])
+
+    def test_a_loop_that_changes_another_list_is_let(self):
+        for change in ("rows.append(x)", "row = rows + [x]", "box.row[0] = x", "rows.extend(row)", "y = row[0]"):
+            self.assertEqual(self.rows("for x in row:", "    " + change), [], change)
